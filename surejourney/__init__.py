@@ -1,0 +1,1 @@
+"""Journeys of a gift that stand failures."""
