@@ -59,6 +59,15 @@ def number_of_departure(net, name):
     return number
 
 
+# 0 for a place, 1 for a car, 2 for a departure: the first of these that has the name; and its number
+def kind_and_number(net, name):
+    for kind, things in enumerate([net.places, net.cars, net.departures]):
+        number = number_of_name(things, name)
+        if number >= 0:
+            return [kind, number]
+    raise NoSuchName()
+
+
 def net_without(net, name):
     number = number_of_departure(net, name)
     other = copy_of_net(net)

@@ -1,6 +1,7 @@
-"""A journey where some departures are cancelled."""
+"""A journey where some departures are cancelled, and which ones are in a worst case."""
 
-from surejourney.outlooks import BY_CAR, minute_there, sure_from, what_to_do
+from surejourney.outlooks import BY_CAR, BY_DEPARTURE, minute_there, sure_from, sure_if_cancelled, sure_if_it_goes
+from surejourney.outlooks import what_to_do
 from surejourney.ways import NEVER
 
 STEP_BY_CAR = 1
@@ -20,7 +21,26 @@ class Traveller:
 
 def play_journey(outlook, traveller, cancelled):
     while goes_on(outlook, traveller):
-        take_step(outlook, traveller, cancelled)
+        take_step(outlook, traveller, choice_of(outlook, traveller), cancelled)
+
+
+# The departures cancelled in a worst case, in order. None is waited for twice, for a journey never goes back in time:
+# so it's told step by step with those cancelled so far.
+def play_worst_case(outlook, traveller):
+    cancelled = []
+    while goes_on(outlook, traveller):
+        choice = choice_of(outlook, traveller)
+        if choice.kind == BY_DEPARTURE and is_worse_cancelled(outlook, traveller.k, choice.number):
+            cancelled.append(choice.number)
+        take_step(outlook, traveller, choice, cancelled)
+    return cancelled
+
+
+def is_worse_cancelled(outlook, k, number):
+    if k == 0:
+        return False
+    departure = outlook.net.departures[number]
+    return sure_if_cancelled(outlook, k, departure) > sure_if_it_goes(outlook, k, departure)
 
 
 def goes_on(outlook, traveller):
@@ -29,8 +49,11 @@ def goes_on(outlook, traveller):
     return sure_from(outlook, traveller.k, traveller.minute, traveller.place) != NEVER
 
 
-def take_step(outlook, traveller, cancelled):
-    choice = what_to_do(outlook, traveller.k, traveller.minute, traveller.place)
+def choice_of(outlook, traveller):
+    return what_to_do(outlook, traveller.k, traveller.minute, traveller.place)
+
+
+def take_step(outlook, traveller, choice, cancelled):
     if choice.kind == BY_CAR:
         go_by_car(outlook, traveller, choice.number)
     elif choice.number in cancelled:

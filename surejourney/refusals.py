@@ -16,7 +16,7 @@ class NoSuchName(Exception):
     pass
 
 
-# -7: nothing is sure
+# -7: nothing is sure, or not by the limit; or there's no way by cars
 class NothingSure(Exception):
     pass
 

@@ -2,11 +2,10 @@
 
 import unittest
 
-from helper import ask, last, net, shift, sure, text, to_do, without, written
+from helper import FAR, ask, last, net, shift, sure, text, to_do, without, written
 
 BASE = "place a\nplace b\nplace c\ncar r a b 50\n"
 NET = BASE + "go f a 10 b 20\ngo g a 12 b 15\ngo h b 30 c 40\n"
-FAR = 10 ** 18
 
 
 class Without(unittest.TestCase):

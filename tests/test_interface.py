@@ -2,17 +2,17 @@
 
 import unittest
 
-from helper import add, net, play, row, shift, sure, table, text, to_do, without
+from helper import (
+    add, cars, find, joined, last_start, net, play, profile, row, shift, stands, state, sure, table, text, to_do, who,
+    without, worst, worths,
+)
 from surejourney.journeys import answers
 
 NET = "place a\nplace b 3\ncar c a b 10\ngo f a 5 b 9\n"
 ALL = [net(NET), add("place e"), text(), shift(2, "f"), sure(1, 0, 0, 1), table(0, 0, 0), to_do(0, 0, 0, 1),
-       play(0, 0, 0, 1, [0]), without("f"), without("f"), shift(1, "f"), net("place"), sure(9, 0, 0, 1),
-       sure(0, 0, 7, 1), sure(0, 0, 0, 2), text()]
-
-
-def joined(calls):
-    return [number for call in calls for number in call]
+       play(0, 0, 0, 1, [0]), last_start(0, 20, 0, 1), profile(0, 0, 1), worst(0, 0, 0, 1), cars(0, 1),
+       who(3, 0, 10, 0), stands(0, 10, 0, 1), state(), find("f"), worths(0, 1), worths(1, 2), without("f"),
+       without("f"), shift(1, "f"), net("place"), sure(9, 0, 0, 1), sure(0, 0, 7, 1), sure(0, 0, 0, 2), text()]
 
 
 class Interface(unittest.TestCase):
@@ -25,7 +25,9 @@ class Interface(unittest.TestCase):
         self.assertEqual(
             answers(joined(ALL)),
             [4, 0, 2, 1, 1] + [4, 0, 3, 1, 1] + [1 + len(written), 0] + written + [3, 0, 7, 11] + [2, 0, 10]
-            + [4, 0, 0, 10, -1] + [3, 0, 1, 0] + [6, 0, 10, 1, 1, 0, 0] + [1, 0] + [1, -5] + [1, -5] + [3, 1, 1, 5]
+            + [4, 0, 0, 10, -1] + [3, 0, 1, 0] + [6, 0, 10, 1, 1, 0, 0] + [2, 0, 10] + [4, 0, 1, 7, 11]
+            + [3, 0, 10, 0] + [2, 0, 10] + [4, 0, 2, 0, 1] + [2, 0, 3] + [4, 0, 3, 1, 1] + [3, 0, 2, 0] + [2, 0, 11]
+            + [2, 0, -1] + [1, 0] + [1, -5] + [1, -5] + [3, 1, 1, 5]
             + [1, -1] + [1, -4] + [1, -7] + [40, 0] + list(b"place a\nplace b 3\nplace e\ncar c a b 10\n"),
         )
 

@@ -2,15 +2,7 @@
 
 import unittest
 
-from helper import last, net, play, to_do
-
-FAR = 10 ** 18
-FLIGHTS = (
-    "place home 5\nplace port 10\nplace city 7\nplace goal 3\n"
-    "car taxi home port 40\ncar ride city goal 20\ncar slow home goal 900\n"
-    "go f1 port 60 city 100\ngo f2 port 90 city 130\ngo f3 port 200 goal 300\n"
-)
-HOURLY = "place a\nplace b\n" + "".join(f"go g{i} a {60 * i} b {60 * i + 50}\n" for i in range(4))
+from helper import FAR, FLIGHTS, HOURLY, last, net, play, to_do
 
 
 class Next(unittest.TestCase):

@@ -221,6 +221,44 @@ class Language(unittest.TestCase):
             if isinstance(node.func, ast.Name) and node.func.id in {"zip", "enumerate", "reversed", "range"}:
                 self.assertIn(id(node), places, (stem, node.lineno))
 
+    def test_sets_and_keywords(self):
+        straight = set()
+        for stem, node in nodes_of(ast.Call):
+            if isinstance(node.func, ast.Name) and node.func.id in {"sorted", "len"} and not node.keywords:
+                straight.update(id(part) for part in node.args)
+        allowed = {"sorted": {"key", "reverse"}, "min": {"key", "default"}, "max": {"key", "default"}}
+        for stem, node in nodes_of(ast.Call):
+            name = node.func.id if isinstance(node.func, ast.Name) else ""
+            if name in {"set", "frozenset"}:
+                self.assertIn(id(node), straight, (stem, node.lineno))
+            self.assertLessEqual({word.arg for word in node.keywords}, allowed.get(name, set()), (stem, node.lineno))
+
+    def test_lists_and_dicts_of_the_top_are_only_read(self):
+        read = {id(node.value) for stem, node in nodes_of(ast.Subscript) if isinstance(node.ctx, ast.Load)}
+        for stem, tree in TREES.items():
+            kept = [node for node in tree.body if isinstance(node, ast.Assign)]
+            kept = [node for node in kept if isinstance(node.value, (ast.List, ast.Dict, ast.Tuple))]
+            for node in kept:
+                inner = list(ast.walk(node.value))[1:]
+                self.assertFalse([part for part in inner if isinstance(part, (ast.List, ast.Dict))], stem)
+            names = {node.targets[0].id for node in kept}
+            for other, node in nodes_of(ast.Name):
+                if node.id in names and isinstance(node.ctx, ast.Load):
+                    self.assertIn(id(node), read, (other, node.lineno))
+
+    def test_functions_and_classes_are_called_where_they_stand(self):
+        called = {id(node.func) for stem, node in nodes_of(ast.Call)}
+        functions = {name for tree in TREES.values() for name in top_names(tree) if name == name.lower()}
+        classes = {node.name for stem, node in nodes_of(ast.ClassDef)}
+        handlers = {id(part) for stem, node in nodes_of(ast.Dict) for part in node.values}
+        bases = {id(base) for stem, node in nodes_of(ast.ClassDef) for base in node.bases}
+        errors = {id(node.type) for stem, node in nodes_of(ast.ExceptHandler)}
+        for stem, node in nodes_of(ast.Name):
+            if node.id in classes | OWN and isinstance(node.ctx, ast.Load):
+                self.assertIn(id(node), called | bases | errors, (stem, node.lineno))
+            if node.id in functions and isinstance(node.ctx, ast.Load):
+                self.assertIn(id(node), called | handlers, (stem, node.lineno))
+
 
 if __name__ == "__main__":
     unittest.main()
